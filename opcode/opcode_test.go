@@ -339,3 +339,37 @@ func TestEncodeInvertsDecodeOnThe8080(t *testing.T) {
 		}
 	}
 }
+
+// P9.1 to P9.3: the two tables hold the instructions of their chips after a call.
+func TestTables(t *testing.T) {
+	opcode.Decode(api.Chip8080, 0)
+	for chip, entries := range map[int]*[256]api.Instr{api.Chip8080: opcode.Table8080, api.Chip8085: opcode.Table8085} {
+		for op, want := range table(chip) {
+			if entries[op] != want {
+				t.Errorf("the entry of %#02x in the table of the chip %d is %+v, want %+v", op, chip, entries[op], want)
+			}
+		}
+	}
+}
+
+// P9.1 to P9.3: the results come from a function, whatever the tables hold.
+func TestResultsDoNotDependOnTheTables(t *testing.T) {
+	opcode.Decode(api.Chip8080, 0)
+	for _, entries := range []*[256]api.Instr{opcode.Table8080, opcode.Table8085} {
+		kept := *entries
+		defer func() { *entries = kept }()
+		for op := range entries {
+			entries[op] = api.Instr{Kind: api.Mvi, Length: 2, Dst: op & 7}
+		}
+	}
+	for _, chip := range chips {
+		least := leasts(chip)
+		for op, want := range table(chip) {
+			if got := opcode.Decode(chip, byte(op)); got != want {
+				t.Errorf("Decode(%d, %#02x) = %+v, want %+v", chip, op, got, want)
+			}
+			checkEncode(t, chip, least, want)
+		}
+		checkEncode(t, chip, least, api.Instr{})
+	}
+}
